@@ -17,6 +17,7 @@ type Disk struct {
 	room  int // how many bytes more the quota allows
 	fuse  int // how many changes more are done, or noFuse
 	dead  bool
+	turn  int // how often it has crashed or was taken
 }
 
 type file struct {
@@ -35,7 +36,7 @@ func New(quota int) (*Disk, api.Errno) {
 // Write puts bytes, which are not safe, behind those of a file, and makes the file if there is none.
 func (d *Disk) Write(name string, bytes string) api.Errno {
 	switch {
-	case d.isDead():
+	case d.Dead():
 		return api.ErrDead
 	case !isName(name):
 		return api.ErrArg
@@ -69,7 +70,7 @@ func (d *Disk) Sync(name string) api.Errno {
 
 // Rename gives a file another name, in the place of the file that had it.
 func (d *Disk) Rename(from string, to string) api.Errno {
-	if !d.isDead() && !isName(to) {
+	if !d.Dead() && !isName(to) {
 		return api.ErrArg
 	}
 	f, e := d.find(from)
@@ -121,7 +122,7 @@ func (d *Disk) Safe(name string) (int, api.Errno) {
 
 // Names tells the names of all files, in order.
 func (d *Disk) Names() ([]string, api.Errno) {
-	if d.isDead() {
+	if d.Dead() {
 		return nil, api.ErrDead
 	}
 	names := make([]string, 0, len(d.files))
@@ -134,7 +135,7 @@ func (d *Disk) Names() ([]string, api.Errno) {
 
 // Fuse lets the disk die behind n changes more, or never if n is below 0.
 func (d *Disk) Fuse(n int) {
-	if d.isDead() {
+	if d.Dead() {
 		return
 	}
 	d.fuse = max(n, noFuse)
@@ -154,6 +155,28 @@ func (d *Disk) Crash(keep []int) {
 	}
 	d.fuse = noFuse
 	d.dead = false
+	d.turn++
+}
+
+// Take begins a new turn and tells its number: whoever holds the disk from an earlier turn holds it no more.
+func (d *Disk) Take() int {
+	if d != nil {
+		d.turn++
+	}
+	return d.Turn()
+}
+
+// Turn tells the number of the turn that lasts till the disk crashes or is taken again.
+func (d *Disk) Turn() int {
+	if d == nil {
+		return 0
+	}
+	return d.turn
+}
+
+// Dead tells whether the disk is dead.
+func (d *Disk) Dead() bool {
+	return d == nil || d.dead
 }
 
 func (d *Disk) crash(f *file, keep int) {
@@ -164,10 +187,6 @@ func (d *Disk) crash(f *file, keep int) {
 		d.room += lost
 	}
 	f.safe = left
-}
-
-func (d *Disk) isDead() bool {
-	return d == nil || d.dead
 }
 
 // blows burns one change off the fuse; if none was left on it, the disk is dead and the change may not be done.
@@ -182,7 +201,7 @@ func (d *Disk) blows() bool {
 }
 
 func (d *Disk) find(name string) (*file, api.Errno) {
-	if d.isDead() {
+	if d.Dead() {
 		return nil, api.ErrDead
 	}
 	f := d.files[name]

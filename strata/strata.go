@@ -4,6 +4,7 @@ package strata
 import (
 	"strata/api"
 	"strata/disk"
+	"strata/store"
 )
 
 // Disk holds files.
@@ -56,51 +57,78 @@ func (d *Disk) Fuse(n int) { d.inner().Fuse(n) }
 func (d *Disk) Crash(keep []int) { d.inner().Crash(keep) }
 
 // Store holds keys and values.
-type Store struct{}
+type Store struct {
+	keys *store.Store
+}
 
 // Open opens the store on a disk (P6).
-func Open(d *Disk, policy int) (*Store, api.Errno) { return nil, api.OK }
+func Open(d *Disk, policy int) (*Store, api.Errno) {
+	if d == nil {
+		return nil, api.ErrArg
+	}
+	keys, e := store.Open(d.files, policy)
+	if e != api.OK {
+		return nil, e
+	}
+	return &Store{keys: keys}, api.OK
+}
+
+// inner is nil, too, for the nil that Open answers with an error: no call panics on it.
+func (s *Store) inner() *store.Store {
+	if s == nil {
+		return nil
+	}
+	return s.keys
+}
 
 // Put gives a key a value (P7).
-func (s *Store) Put(key string, value string) api.Errno { return api.OK }
+func (s *Store) Put(key string, value string) api.Errno {
+	return s.Batch([]api.Op{{Key: key, Value: value}})
+}
 
 // Delete takes a key away (P7).
-func (s *Store) Delete(key string) api.Errno { return api.OK }
+func (s *Store) Delete(key string) api.Errno {
+	return s.Batch([]api.Op{{Key: key, Delete: true}})
+}
 
 // Batch does several of these as one (P7).
-func (s *Store) Batch(ops []api.Op) api.Errno { return api.OK }
+func (s *Store) Batch(ops []api.Op) api.Errno { return s.inner().Batch(ops) }
 
 // Get tells a key's value (P8).
-func (s *Store) Get(key string) (string, bool, api.Errno) { return "", false, api.OK }
+func (s *Store) Get(key string) (string, bool, api.Errno) { return s.inner().Get(key) }
 
 // Scan tells keys and values in order (P8).
-func (s *Store) Scan(lo string, hi string, limit int) ([]api.Pair, api.Errno) { return nil, api.OK }
+func (s *Store) Scan(lo string, hi string, limit int) ([]api.Pair, api.Errno) {
+	return s.inner().Scan(lo, hi, limit)
+}
 
 // Snapshot keeps what is there now (P9).
-func (s *Store) Snapshot() (int, api.Errno) { return 0, api.OK }
+func (s *Store) Snapshot() (int, api.Errno) { return 0, s.inner().Ready() }
 
 // Release gives a snapshot up (P9).
-func (s *Store) Release(id int) api.Errno { return api.OK }
+func (s *Store) Release(id int) api.Errno { return s.inner().Ready() }
 
 // GetAt tells a key's value at a snapshot (P9).
-func (s *Store) GetAt(id int, key string) (string, bool, api.Errno) { return "", false, api.OK }
+func (s *Store) GetAt(id int, key string) (string, bool, api.Errno) {
+	return "", false, s.inner().Ready()
+}
 
 // ScanAt tells keys and values in order at a snapshot (P9).
 func (s *Store) ScanAt(id int, lo string, hi string, limit int) ([]api.Pair, api.Errno) {
-	return nil, api.OK
+	return nil, s.inner().Ready()
 }
 
 // Flush writes what is in memory to a table (P10).
-func (s *Store) Flush() api.Errno { return api.OK }
+func (s *Store) Flush() api.Errno { return s.inner().Writable() }
 
 // Compact merges all tables (P11).
-func (s *Store) Compact() api.Errno { return api.OK }
+func (s *Store) Compact() api.Errno { return s.inner().Writable() }
 
 // Tables tells which tables there are (P10).
-func (s *Store) Tables() ([]api.Table, api.Errno) { return nil, api.OK }
+func (s *Store) Tables() ([]api.Table, api.Errno) { return nil, s.inner().Ready() }
 
 // Merge merges some tables (P12).
-func (s *Store) Merge(numbers []int) api.Errno { return api.OK }
+func (s *Store) Merge(numbers []int) api.Errno { return s.inner().Writable() }
 
 // Sync makes all that was done safe (P14).
-func (s *Store) Sync() api.Errno { return api.OK }
+func (s *Store) Sync() api.Errno { return s.inner().Sync() }

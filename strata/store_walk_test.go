@@ -1,0 +1,265 @@
+package strata_test
+
+import (
+	"maps"
+	"math/rand"
+	"slices"
+	"strings"
+	"testing"
+
+	"strata/api"
+	"strata/strata"
+)
+
+// walk does things at random on a disk and the stores on it, and holds what they answer against the promises.
+type walk struct {
+	*rand.Rand
+	t     *testing.T
+	d     *strata.Disk
+	s     *strata.Store // the last one that Open gave
+	old   *strata.Store // one that is not open any more
+	h     *history
+	quota int
+	bytes int // of all keys and values that were ever handed in
+	ops   int
+	open  bool
+	stuck bool
+	crash bool // whether there was a crash since a store was opened
+}
+
+func (w *walk) dead() bool {
+	_, e := w.d.Names()
+	return e == api.ErrDead
+}
+
+// mayBeFull tells whether the quota is so small that a change may be refused (P6).
+func (w *walk) mayBeFull() bool { return w.quota < 8192+64*(w.bytes+64*w.ops) }
+
+// expect checks an answer of a call of the store: the error that is named first, or OK, or what came of the call itself.
+func (w *walk) expect(what string, got api.Errno, wasDead bool, writes bool, right bool) {
+	w.t.Helper()
+	want := api.OK
+	switch {
+	case !w.open:
+		want = api.ErrClosed
+	case wasDead:
+		want = api.ErrDead
+	case writes && w.stuck:
+		want = api.ErrStuck
+	case !right:
+		want = api.ErrArg
+	case writes && w.dead():
+		want = api.ErrDead
+	case writes && got == api.ErrFull && w.mayBeFull():
+		want = api.ErrFull
+	}
+	if got != want {
+		w.t.Fatalf("%s = %d, want %d", what, got, want)
+	}
+}
+
+func (w *walk) text(most int) string {
+	text := make([]byte, w.Intn(most+1))
+	for i := range text {
+		text[i] = "ab\x00\xff"[w.Intn(4)]
+	}
+	return string(text)
+}
+
+func (w *walk) key() string {
+	if w.Intn(60) == 0 {
+		return []string{"", strings.Repeat("k", 17)}[w.Intn(2)]
+	}
+	if w.Intn(20) == 0 {
+		return strings.Repeat("k", 16)
+	}
+	return "ab"[w.Intn(2):] + w.text(2)
+}
+
+func (w *walk) value() string {
+	if w.Intn(60) == 0 {
+		return strings.Repeat("v", 65)
+	}
+	if w.Intn(20) == 0 {
+		return strings.Repeat("v", 64)
+	}
+	return w.text(9)
+}
+
+func rightKey(key string) bool { return len(key) > 0 && len(key) <= 16 }
+
+func rightBatch(ops []api.Op) bool {
+	wrong := slices.ContainsFunc(ops, func(op api.Op) bool {
+		return !rightKey(op.Key) || !op.Delete && len(op.Value) > 64
+	})
+	return len(ops) > 0 && len(ops) <= 8 && !wrong
+}
+
+func (w *walk) batch() {
+	ops := make([]api.Op, w.Intn(5))
+	if w.Intn(20) == 0 {
+		ops = make([]api.Op, 7+w.Intn(3))
+	}
+	for i := range ops {
+		ops[i] = api.Op{Key: w.key(), Value: w.value(), Delete: w.Intn(3) == 0}
+		w.bytes += len(ops[i].Key) + len(ops[i].Value)
+	}
+	w.ops += len(ops)
+	wasDead := w.dead()
+	var e api.Errno
+	switch {
+	case len(ops) == 1 && ops[0].Delete:
+		e = w.s.Delete(ops[0].Key)
+	case len(ops) == 1:
+		e = w.s.Put(ops[0].Key, ops[0].Value)
+	default:
+		e = w.s.Batch(ops)
+	}
+	w.expect("Batch", e, wasDead, true, rightBatch(ops))
+	switch {
+	case e == api.ErrFull:
+		w.stuck = true
+	case e == api.OK, e == api.ErrDead && !wasDead:
+		w.h.did(ops)
+	}
+}
+
+func (w *walk) get() {
+	key := w.key()
+	value, ok, e := w.s.Get(key)
+	w.expect("Get", e, w.dead(), false, rightKey(key))
+	want, there := w.h.now[key]
+	if e != api.OK {
+		want, there = "", false
+	}
+	if value != want || ok != there {
+		w.t.Fatalf("Get(%q) = %q, %v, want %q, %v", key, value, ok, want, there)
+	}
+}
+
+func (w *walk) scan() {
+	lo, hi, limit := w.text(2), w.text(2), w.Intn(12)-1
+	pairs, e := w.s.Scan(lo, hi, limit)
+	w.expect("Scan", e, w.dead(), false, limit >= 0)
+	var want []string
+	for _, key := range slices.Sorted(maps.Keys(w.h.now)) {
+		if key >= lo && (hi == "" || key < hi) && len(want) < 2*limit {
+			want = append(want, key, w.h.now[key])
+		}
+	}
+	if e != api.OK {
+		want = nil
+	}
+	if !slices.Equal(flat(pairs), want) {
+		w.t.Fatalf("Scan(%q, %q, %d) = %q, want %q", lo, hi, limit, pairs, want)
+	}
+}
+
+func (w *walk) sync() {
+	wasDead := w.dead()
+	e := w.s.Sync()
+	w.expect("Sync", e, wasDead, true, true)
+	if e == api.OK {
+		w.h.synced()
+	}
+}
+
+func (w *walk) reopen() {
+	policy := w.Intn(5) - 1
+	s, e := strata.Open(w.d, policy)
+	if policy < 0 || policy > 2 {
+		if s != nil || e != api.ErrArg {
+			w.t.Fatalf("Open(d, %d) = %v, %d", policy, s, e)
+		}
+		return
+	}
+	w.open = false
+	if e != api.OK {
+		if s != nil || e != api.ErrDead && e != api.ErrFull || (e == api.ErrDead) != w.dead() || e == api.ErrFull && !w.mayBeFull() {
+			w.t.Fatalf("Open = %v, %d", s, e)
+		}
+		return
+	}
+	w.s, w.old, w.open, w.stuck = s, w.s, true, false
+	if w.crash {
+		w.h.came(w.t, s)
+		w.crash = false
+	}
+	w.h.is(w.t, s)
+	w.h.synced()
+}
+
+func (w *walk) crashes() {
+	keep := make([]int, w.Intn(5))
+	for i := range keep {
+		keep[i] = w.Intn(60) - 5
+	}
+	w.d.Crash(keep)
+	w.open, w.crash = false, true
+	for range 3 {
+		if !w.open {
+			w.d.Fuse(w.Intn(8) - 2)
+			w.reopen()
+		}
+		if w.dead() {
+			w.d.Crash(keep)
+		}
+	}
+}
+
+func (w *walk) step() {
+	switch n := w.Intn(40); {
+	case n < 18:
+		w.batch()
+	case n < 24:
+		w.get()
+	case n < 28:
+		w.scan()
+	case n < 32:
+		w.sync()
+	case n < 34:
+		w.reopen()
+	case n < 36:
+		w.d.Fuse(w.Intn(20) - 1)
+	case n < 38 || w.dead():
+		w.crashes()
+	}
+	if w.old != nil && w.old != w.s {
+		if e := w.old.Sync(); e != api.ErrClosed {
+			w.t.Fatalf("Sync of a store that is not open any more = %d", e)
+		}
+	}
+}
+
+// P6 to P8, P14 and P15 together.
+func TestAStoreKeepsItsPromises(t *testing.T) {
+	for seed := range int64(600) {
+		r := rand.New(rand.NewSource(seed))
+		quota := []int{api.MaxQuota, 8192, 2000, r.Intn(700)}[r.Intn(4)]
+		w := &walk{Rand: r, t: t, d: newDisk(t, quota), h: newHistory(), quota: quota}
+		for range 300 {
+			w.step()
+		}
+	}
+}
+
+// P6: with a quota as great as it says no change is ever refused, however often the disk crashes.
+func TestTheQuotaThatIsEnough(t *testing.T) {
+	for seed := range int64(60) {
+		r := rand.New(rand.NewSource(seed))
+		first := &walk{Rand: r, t: t, d: newDisk(t, api.MaxQuota), h: newHistory(), quota: api.MaxQuota}
+		count := 20 + r.Intn(200)
+		for range count {
+			first.step()
+		}
+		quota := 8192 + 64*(first.bytes+64*first.ops)
+		if quota > api.MaxQuota {
+			continue
+		}
+		again := &walk{Rand: rand.New(rand.NewSource(seed)), t: t, d: newDisk(t, quota), h: newHistory(), quota: quota}
+		again.Intn(200)
+		for range count {
+			again.step()
+		}
+	}
+}
