@@ -1,53 +1,38 @@
 package store
 
 import (
-	"iter"
 	"slices"
 	"strings"
 
 	"strata/api"
+	"strata/layer"
 )
 
-// memory is what is in memory: the keys, each with the version that the last op on it left.
-type memory map[string]version
+// memory is what is in memory: from keys to their versions, the newest first.
+type memory map[string][]layer.Entry
 
-type version struct {
-	value string
-}
-
-// do does a batch, op by op.
-func (m memory) do(ops []api.Op) {
+// do does a batch, op by op. Of what it writes over, those versions are kept that were there when the last live snapshot was taken.
+func (m memory) do(ops []api.Op, batch int, lastSnap int) {
 	for _, op := range ops {
-		if op.Delete {
-			delete(m, op.Key)
-			continue
+		entry := layer.Entry{Op: own(op), Batch: batch}
+		versions := m[entry.Key]
+		if len(versions) > 0 && versions[0].Batch > lastSnap {
+			versions = versions[1:]
 		}
-		// Copies: neither the caller's texts are kept, nor a whole log for the sake of one key.
-		m[strings.Clone(op.Key)] = version{value: strings.Clone(op.Value)}
+		m[entry.Key] = slices.Concat([]layer.Entry{entry}, versions)
 	}
 }
 
-// scan goes through the keys that are not ahead of lo and, unless hi is empty, ahead of hi, in order.
-func (m memory) scan(lo string, hi string) iter.Seq[api.Pair] {
-	return func(yield func(api.Pair) bool) {
-		for _, key := range m.between(lo, hi) {
-			if !yield(api.Pair{Key: key, Value: m[key].value}) {
-				return
-			}
-		}
+// own copies an op: neither the caller's texts are kept, nor a whole log for the sake of one key.
+func own(op api.Op) api.Op {
+	if op.Delete {
+		return api.Op{Key: strings.Clone(op.Key), Delete: true}
 	}
+	return api.Op{Key: strings.Clone(op.Key), Value: strings.Clone(op.Value)}
 }
 
-// ops tells a list of ops that makes an empty map this one.
-func (m memory) ops() []api.Op {
-	var ops []api.Op
-	for pair := range m.scan("", "") {
-		ops = append(ops, api.Op{Key: pair.Key, Value: pair.Value})
-	}
-	return ops
-}
-
-func (m memory) between(lo string, hi string) []string {
+// between tells the versions of the keys from lo on and, unless hi is empty, ahead of hi, as a layer.
+func (m memory) between(lo string, hi string) []layer.Entry {
 	var keys []string
 	for key := range m {
 		if key >= lo && (hi == "" || key < hi) {
@@ -55,5 +40,9 @@ func (m memory) between(lo string, hi string) []string {
 		}
 	}
 	slices.Sort(keys)
-	return keys
+	var entries []layer.Entry
+	for _, key := range keys {
+		entries = append(entries, m[key]...)
+	}
+	return entries
 }

@@ -23,6 +23,10 @@ func newHistory() *history {
 	return &history{now: map[string]string{}, states: []string{""}}
 }
 
+func (h *history) clone() *history {
+	return &history{now: maps.Clone(h.now), states: slices.Clone(h.states), safe: h.safe}
+}
+
 func (h *history) did(ops []api.Op) {
 	for _, op := range ops {
 		if op.Delete {
@@ -78,10 +82,11 @@ func plainText(m map[string]string) string {
 	return all
 }
 
-// step of a plan: a batch, or with none: Sync, or Open.
+// planned is a step of a plan: a batch, or with none: Flush, Open or Sync.
 type planned struct {
-	ops  []api.Op
-	open bool
+	ops   []api.Op
+	flush bool
+	open  bool
 }
 
 func plan() []planned {
@@ -102,21 +107,37 @@ func plan() []planned {
 	}
 }
 
+// flushed is the plan with flushes between: so many that tables are merged.
+func flushed() []planned {
+	var steps []planned
+	for i, step := range slices.Concat(plan(), plan()) {
+		steps = append(steps, step)
+		if step.ops != nil && i%5 != 4 {
+			steps = append(steps, planned{flush: true})
+		}
+	}
+	return append(steps, planned{ops: []api.Op{put("d", "13"), gone("a")}})
+}
+
 // follow does a plan on a new disk of which the fuse is n changes long, till it is done or the disk dies.
-func follow(t *testing.T, steps []planned, n int) (*strata.Disk, *history, bool) {
+func follow(t *testing.T, steps []planned, policy int, n int) (*strata.Disk, *history, bool) {
 	t.Helper()
 	d, h := newDisk(t, api.MaxQuota), newHistory()
 	d.Fuse(n)
-	s, e := strata.Open(d, api.Tiered)
+	s, e := strata.Open(d, policy)
 	for _, step := range steps {
 		if e != api.OK {
 			break
 		}
 		switch {
 		case step.open:
-			if s, e = strata.Open(d, api.Leveled); e == api.OK {
+			if s, e = strata.Open(d, policy); e == api.OK {
 				h.is(t, s)
 				h.synced()
+			}
+		case step.flush:
+			if e = s.Flush(); e == api.OK {
+				h.is(t, s)
 			}
 		case step.ops == nil:
 			if e = s.Sync(); e == api.OK {
@@ -142,36 +163,60 @@ func keeps(most int) [][]int {
 	return all
 }
 
+// crashes are some ways to crash: none, all and some of the bytes that are not safe, of one file and of all.
+func crashes() [][]int {
+	all := keeps(1)
+	for _, n := range []int{1, 9, 30} {
+		all = append(all, slices.Repeat([]int{n}, 9))
+		for i := range 4 {
+			all = append(all, append(make([]int, i), n))
+		}
+	}
+	return all
+}
+
 // opened opens a store behind a crash, through all deaths of the disk that come from fuses of some lengths, in turn.
-func opened(t *testing.T, d *strata.Disk, h *history, fuses []int, keep []int) *strata.Store {
+// No change was ever refused, and all stores had this policy: the tables are in shape.
+func opened(t *testing.T, d *strata.Disk, h *history, policy int, fuses []int, keep []int) *strata.Store {
 	t.Helper()
-	for _, n := range fuses {
+	for _, n := range append(slices.Clone(fuses), -1) {
 		d.Fuse(n)
-		s, e := strata.Open(d, api.Lazy)
+		s, e := strata.Open(d, policy)
 		if e == api.OK {
 			h.came(t, s)
+			inShape(t, s, policy)
+			fewFiles(t, d, s)
 		} else if s != nil || e != api.ErrDead {
 			t.Fatalf("Open behind a crash = %v, %d", s, e)
 		}
+		if n == -1 {
+			return s
+		}
 		d.Crash(keep)
 	}
-	return open(t, d, api.Tiered)
+	return nil
 }
 
 // goesOn checks that a store that came back takes more, and that what it lost does not come back.
-func goesOn(t *testing.T, d *strata.Disk, h *history, s *strata.Store) {
+func goesOn(t *testing.T, d *strata.Disk, h *history, s *strata.Store, policy int) {
 	t.Helper()
 	h.came(t, s)
-	for _, op := range []api.Op{put("z", "26"), gone("a"), put("b", "27")} {
+	for i, op := range []api.Op{put("z", "26"), gone("a"), put("b", "27")} {
 		does(t, s, op)
 		h.did([]api.Op{op})
+		inShape(t, s, policy)
+		if i == 1 {
+			flushes(t, s)
+			inShape(t, s, policy)
+			fewFiles(t, d, s)
+		}
 	}
 	h.is(t, s)
 	answers(t, "Sync", s.Sync(), api.OK)
 	h.synced()
 	d.Crash(nil)
-	h.came(t, open(t, d, api.Tiered))
-	h.is(t, open(t, d, api.Leveled))
+	h.came(t, opened(t, d, h, policy, nil, nil))
+	h.is(t, open(t, d, (policy+1)%3))
 }
 
 // P15
@@ -183,9 +228,9 @@ func TestTheDiskDiesAtEachOfItsChanges(t *testing.T) {
 		for _, keep := range keeps(90) {
 			var d *strata.Disk
 			var h *history
-			d, h, whole = follow(t, steps, n)
+			d, h, whole = follow(t, steps, n%3, n)
 			d.Crash(keep)
-			goesOn(t, d, h, open(t, d, api.Tiered))
+			goesOn(t, d, h, opened(t, d, h, n%3, nil, nil), n%3)
 		}
 		if whole {
 			break
@@ -199,10 +244,147 @@ func TestTheDiskDiesAtEachChangeOfOpen(t *testing.T) {
 		for n := range 6 {
 			for m := range 6 {
 				for _, again := range [][]int{nil, {1, 1}, {0, 20}, {99, 99}} {
-					d, h, _ := follow(t, steps, -1)
+					d, h, _ := follow(t, steps, api.Tiered, -1)
 					d.Crash(keep)
-					goesOn(t, d, h, opened(t, d, h, []int{n, m}, again))
+					goesOn(t, d, h, opened(t, d, h, api.Tiered, []int{n, m}, again), api.Tiered)
 				}
+			}
+		}
+	}
+}
+
+// P10 and P15
+
+func TestTheDiskDiesAtEachOfItsChangesWhileThereAreFlushes(t *testing.T) {
+	steps := flushed()
+	for _, policy := range policies {
+		for n := 0; ; n++ {
+			whole := false
+			for _, keep := range crashes() {
+				var d *strata.Disk
+				var h *history
+				d, h, whole = follow(t, steps, policy, n)
+				d.Crash(keep)
+				goesOn(t, d, h, opened(t, d, h, policy, nil, nil), policy)
+			}
+			if whole {
+				break
+			}
+		}
+	}
+}
+
+// diesWithin does a call to a store on a copy of a disk that dies behind no change, behind one, and so on, till the call is done.
+// Each time it looks at what comes back: through crashes of all kinds, and through other deaths when it is opened.
+func diesWithin(t *testing.T, base *strata.Disk, before *history, policy int, ops []api.Op, call func(*strata.Store, *history) api.Errno) {
+	t.Helper()
+	for n := 0; ; n++ {
+		e := api.ErrDead
+		for _, keep := range crashes() {
+			for _, fuses := range [][]int{nil, {0}, {1}, {2}, {3}, {4, 0}, {1, 1, 1}} {
+				d, h := copied(t, base, api.MaxQuota), before.clone()
+				s := open(t, d, policy)
+				does(t, s, ops...)
+				h.did(ops)
+				d.Fuse(n)
+				if e = call(s, h); e != api.OK && e != api.ErrDead {
+					t.Fatalf("the call with a fuse of %d changes = %d", n, e)
+				}
+				d.Crash(keep)
+				goesOn(t, d, h, opened(t, d, h, policy, fuses, keep), policy)
+			}
+		}
+		if e == api.OK {
+			if n < 5 {
+				t.Errorf("the call made %d changes", n)
+			}
+			return
+		}
+	}
+}
+
+// layered is a disk with a store to which so many tables were flushed, and its history: all is safe.
+func layered(t *testing.T, policy int, tables int) (*strata.Disk, *history) {
+	t.Helper()
+	d, h := newDisk(t, api.MaxQuota), newHistory()
+	s := open(t, d, policy)
+	for i := range tables {
+		ops := []api.Op{put(fmt.Sprint(i%7), fmt.Sprint(i)), gone(fmt.Sprint(i % 4)), put("a", fmt.Sprint(i))}
+		does(t, s, ops...)
+		h.did(ops)
+		flushes(t, s)
+	}
+	h.synced()
+	return d, h
+}
+
+func TestTheDiskDiesAtEachChangeOfAFlush(t *testing.T) {
+	for _, policy := range policies {
+		// With 4 tables of level 0 there is a merging behind the next one; with 24 of which 20 were merged, by Tiered, another one behind that.
+		for _, count := range []int{0, 1, 4, 24} {
+			d, h := layered(t, policy, count)
+			ops := []api.Op{put("b", "new"), gone("1"), put("a", "new")}
+			diesWithin(t, d, h, policy, ops, func(s *strata.Store, h *history) api.Errno {
+				return s.Flush()
+			})
+		}
+	}
+}
+
+func TestTheDiskDiesAtEachChangeOfAFlushBehindABatch(t *testing.T) {
+	for _, policy := range policies {
+		d, h := layered(t, policy, 4)
+		s := open(t, d, policy)
+		long := strings.Repeat("v", 64)
+		for i := 0; size(t, d) < 4096; i++ {
+			ops := []api.Op{put(fmt.Sprint("long", i%3), long)}
+			does(t, s, ops...)
+			h.did(ops)
+		}
+		h.synced()
+		if told := tables(t, s); len(told) != 4 {
+			t.Fatalf("Tables = %v", told)
+		}
+		diesWithin(t, d, h, policy, []api.Op{put("b", "new")}, func(s *strata.Store, h *history) api.Errno {
+			e := api.OK
+			for i := 0; len(tables(t, s)) == 4 && i < 60; i++ {
+				ops := []api.Op{put("c", long), gone(fmt.Sprint(i))}
+				e = s.Batch(ops)
+				h.did(ops)
+				if e != api.OK {
+					return e
+				}
+			}
+			inShape(t, s, policy)
+			return e
+		})
+	}
+}
+
+// By another policy than before the first batch brings the tables into shape, whatever deaths there are till then.
+func TestTheDiskDiesWhileTablesGetAnotherShape(t *testing.T) {
+	for _, before := range policies {
+		policy := (before + 1) % 3
+		base, history := layered(t, before, 24)
+		for n := 0; ; n++ {
+			e := api.ErrDead
+			for _, keep := range crashes() {
+				d, h := copied(t, base, api.MaxQuota), history.clone()
+				s := open(t, d, policy)
+				ops := []api.Op{put("b", "new"), gone("a")}
+				d.Fuse(n)
+				e = s.Batch(ops)
+				h.did(ops)
+				if e != api.OK && e != api.ErrDead {
+					t.Fatalf("Batch = %d", e)
+				}
+				d.Crash(keep)
+				s = open(t, d, policy)
+				fewFiles(t, d, s)
+				goesOn(t, d, h, s, policy)
+			}
+			if e == api.OK {
+				break
 			}
 		}
 	}
@@ -335,7 +517,7 @@ func TestAFullDiskDiesAtEachChangeOfOpen(t *testing.T) {
 				}
 				d.Crash([]int{1, 20})
 				other := copied(t, d, api.MaxQuota)
-				goesOn(t, other, h, open(t, other, 0))
+				goesOn(t, other, h, open(t, other, 0), 0)
 			}
 		}
 	}
@@ -355,5 +537,5 @@ func TestOpenBehindACrashOnADiskFullOfOldValues(t *testing.T) {
 	does(t, s, put("2", "last"))
 	h.did([]api.Op{put("2", "last")})
 	d.Crash([]int{5, 5, 5})
-	goesOn(t, d, h, open(t, d, 0))
+	goesOn(t, d, h, open(t, d, 0), 0)
 }

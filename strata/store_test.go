@@ -387,9 +387,11 @@ func TestACopyOfTheFilesIsLikeTheDisk(t *testing.T) {
 }
 
 func TestFilesOfOthersAreBroken(t *testing.T) {
-	for _, name := range []string{"a", "other", "log.", "log.0", "log.new.new", "logs", ".", "new"} {
+	for _, name := range []string{"a", "other", "log", "log.", "log.00", "log.2", "log.10", "logs", ".", "table", "table.", "table.01", "table.4", "table.zzzzzzzzzzzzzz", "tables.1", "manifest.", "manifest.1", "begun.1", "1"} {
 		d, s := newStore(t)
 		does(t, s, put("a", "1"))
+		answers(t, "Flush", s.Flush(), api.OK)
+		does(t, s, put("b", "2"))
 		d.Write(name, "something")
 		before := look(d)
 		if u, e := strata.Open(d, 0); u != nil || e != api.ErrBroken {
@@ -426,18 +428,27 @@ func TestOpenOfADiskThatAnotherHandChanged(t *testing.T) {
 	d, s := newStore(t)
 	does(t, s, put("a", "1"), put("b", "2"))
 	does(t, s, gone("a"))
+	answers(t, "Flush", s.Flush(), api.OK)
+	does(t, s, put("a", "3"), gone("b"))
+	answers(t, "Flush", s.Flush(), api.OK)
 	does(t, s, put("c", strings.Repeat("v", 64)))
 	answered := map[api.Errno]int{}
 	tampered(t, d, func(other *strata.Disk) {
+		before := look(other)
 		u, e := strata.Open(other, api.Tiered)
 		answered[e]++
 		if (u == nil) != (e != api.OK) || e != api.OK && e != api.ErrBroken && e != api.ErrFull {
 			t.Errorf("Open = %v, %d", u, e)
 		}
+		if after := look(other); e == api.ErrBroken && after != before {
+			t.Errorf("the disk was %s, and is %s", before, after)
+		}
 		u.Put("d", "4")
 		u.Get("a")
 		u.Scan("", "", 9)
 		u.Sync()
+		u.Tables()
+		u.Flush()
 		strata.Open(other, api.Lazy)
 	})
 	if answered[api.OK] == 0 || answered[api.ErrBroken] == 0 {
@@ -445,10 +456,34 @@ func TestOpenOfADiskThatAnotherHandChanged(t *testing.T) {
 	}
 }
 
+func TestOpenOfADiskOfWhichAnotherHandTookAFile(t *testing.T) {
+	base, s := newStore(t)
+	for i := range 3 {
+		does(t, s, put(fmt.Sprint(i), "1"))
+		answers(t, "Flush", s.Flush(), api.OK)
+	}
+	does(t, s, put("c", "1"))
+	names, _ := base.Names()
+	for _, name := range names {
+		d := copied(t, base, api.MaxQuota)
+		d.Remove(name)
+		before := look(d)
+		u, e := strata.Open(d, api.Tiered)
+		if (u == nil) != (e != api.OK) || e != api.OK && e != api.ErrBroken {
+			t.Errorf("without the file %q: Open = %v, %d", name, u, e)
+		}
+		if after := look(d); after != before {
+			t.Errorf("the disk was %s, and is %s", before, after)
+		}
+		u.Scan("", "", 9)
+		u.Flush()
+	}
+}
+
 func TestReadingChangesNothingOnTheDisk(t *testing.T) {
 	d, s := newStore(t)
 	does(t, s, put("a", "1"), put("b", "2"))
-	answers(t, "Sync", s.Sync(), api.OK)
+	answers(t, "Flush", s.Flush(), api.OK)
 	does(t, s, put("c", "3"))
 	d.Fuse(0)
 	before := look(d)
@@ -731,14 +766,22 @@ func TestSyncOfADiskThatDies(t *testing.T) {
 	has(t, open(t, d, 0))
 }
 
-// The document's examples of the store, as far as they tell of the map and of what is safe.
+// The document's examples of the store, but for Compact.
 func TestExamplesOfTheStore(t *testing.T) {
 	d, s := newStore(t)
 	answers(t, `Put("b", "1")`, s.Put("b", "1"), api.OK)
 	answers(t, `Put("a", "2")`, s.Put("a", "2"), api.OK)
 	has(t, s, "a", "2", "b", "1")
+	takes(t, s, 1)
 	answers(t, `Delete("b")`, s.Delete("b"), api.OK)
 	misses(t, s, "b", api.OK)
+	if value, ok, e := s.GetAt(1, "b"); value != "1" || !ok || e != api.OK {
+		t.Errorf(`GetAt(1, "b") = %q, %v, %d`, value, ok, e)
+	}
+	answers(t, "Flush()", s.Flush(), api.OK)
+	if told := tables(t, s); len(told) != 1 || told[0].Level != 0 {
+		t.Errorf("Tables() = %v", told)
+	}
 	if pairs, e := s.Scan("a", "b", 9); !slices.Equal(flat(pairs), []string{"a", "2"}) || e != api.OK {
 		t.Errorf(`Scan("a", "b", 9) = %q, %d`, pairs, e)
 	}
@@ -749,6 +792,10 @@ func TestExamplesOfTheStore(t *testing.T) {
 		t.Errorf(`Scan("", "", -1) = %q, %d`, pairs, e)
 	}
 	answers(t, `Put("", "1")`, s.Put("", "1"), api.ErrArg)
+	answers(t, "Release(1)", s.Release(1), api.OK)
+	if value, ok, e := s.GetAt(1, "b"); value != "" || ok || e != api.ErrSnap {
+		t.Errorf(`GetAt(1, "b") = %q, %v, %d`, value, ok, e)
+	}
 	answers(t, `Put("c", "3")`, s.Put("c", "3"), api.OK)
 	answers(t, "Sync()", s.Sync(), api.OK)
 	answers(t, `Put("d", "4")`, s.Put("d", "4"), api.OK)

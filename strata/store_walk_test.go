@@ -25,6 +25,12 @@ type walk struct {
 	open  bool
 	stuck bool
 	crash bool // whether there was a crash since a store was opened
+
+	policy int                       // of the store
+	steady bool                      // whether all stores get the same policy
+	same   bool                      // whether all stores on the disk had this policy
+	snaps  map[int]map[string]string // the maps that live snapshots keep
+	taken  int
 }
 
 func (w *walk) dead() bool {
@@ -35,8 +41,17 @@ func (w *walk) dead() bool {
 // mayBeFull tells whether the quota is so small that a change may be refused (P6).
 func (w *walk) mayBeFull() bool { return w.quota < 8192+64*(w.bytes+64*w.ops) }
 
+// roomy tells whether there is so much room that no change was ever refused.
+func (w *walk) roomy() bool { return w.quota == api.MaxQuota || !w.mayBeFull() }
+
 // expect checks an answer of a call of the store: the error that is named first, or OK, or what came of the call itself.
 func (w *walk) expect(what string, got api.Errno, wasDead bool, writes bool, right bool) {
+	w.t.Helper()
+	w.expectOr(api.ErrArg, what, got, wasDead, writes, right)
+}
+
+// expectOr is expect with another error for what is wrong.
+func (w *walk) expectOr(wrong api.Errno, what string, got api.Errno, wasDead bool, writes bool, right bool) {
 	w.t.Helper()
 	want := api.OK
 	switch {
@@ -47,7 +62,7 @@ func (w *walk) expect(what string, got api.Errno, wasDead bool, writes bool, rig
 	case writes && w.stuck:
 		want = api.ErrStuck
 	case !right:
-		want = api.ErrArg
+		want = wrong
 	case writes && w.dead():
 		want = api.ErrDead
 	case writes && got == api.ErrFull && w.mayBeFull():
@@ -122,6 +137,94 @@ func (w *walk) batch() {
 	case e == api.OK, e == api.ErrDead && !wasDead:
 		w.h.did(ops)
 	}
+	if e == api.OK && w.roomy() {
+		inShape(w.t, w.s, w.policy)
+	}
+}
+
+func (w *walk) flush() {
+	wasDead := w.dead()
+	e := w.s.Flush()
+	w.expect("Flush", e, wasDead, true, true)
+	if e != api.OK {
+		return
+	}
+	if w.roomy() {
+		inShape(w.t, w.s, w.policy)
+	}
+	fewFiles(w.t, w.d, w.s)
+	w.h.is(w.t, w.s)
+}
+
+func (w *walk) snapshot() {
+	id, e := w.s.Snapshot()
+	w.expectOr(api.ErrSnap, "Snapshot", e, w.dead(), false, len(w.snaps) < api.MaxSnaps)
+	if e != api.OK {
+		w.taken--
+	}
+	w.taken++
+	if e != api.OK && id != 0 || e == api.OK && id != w.taken {
+		w.t.Fatalf("Snapshot = %d, %d, behind %d others", id, e, w.taken-1)
+	}
+	if e == api.OK {
+		w.snaps[id] = maps.Clone(w.h.now)
+	}
+}
+
+func (w *walk) release() {
+	id := w.id()
+	_, live := w.snaps[id]
+	e := w.s.Release(id)
+	w.expectOr(api.ErrSnap, "Release", e, w.dead(), false, live)
+	if e == api.OK {
+		delete(w.snaps, id)
+	}
+}
+
+// id is mostly the number of a live snapshot.
+func (w *walk) id() int { return w.taken - w.Intn(api.MaxSnaps+3) + 1 }
+
+func (w *walk) readAt() {
+	id, key, lo, hi, limit := w.id(), w.key(), w.text(2), w.text(2), w.Intn(12)-1
+	m, live := w.snaps[id]
+	value, ok, e := w.s.GetAt(id, key)
+	w.expectAt("GetAt", e, live, rightKey(key))
+	want, there := m[key]
+	if e != api.OK {
+		want, there = "", false
+	}
+	if value != want || ok != there {
+		w.t.Fatalf("GetAt(%d, %q) = %q, %v, want %q, %v", id, key, value, ok, want, there)
+	}
+	pairs, e := w.s.ScanAt(id, lo, hi, limit)
+	w.expectAt("ScanAt", e, live, limit >= 0)
+	all := part(m, lo, hi, limit)
+	if e != api.OK {
+		all = nil
+	}
+	if !slices.Equal(flat(pairs), all) {
+		w.t.Fatalf("ScanAt(%d, %q, %q, %d) = %q, want %q", id, lo, hi, limit, pairs, all)
+	}
+}
+
+func (w *walk) expectAt(what string, e api.Errno, live bool, right bool) {
+	w.t.Helper()
+	if live {
+		w.expect(what, e, w.dead(), false, right)
+	} else {
+		w.expectOr(api.ErrSnap, what, e, w.dead(), false, false)
+	}
+}
+
+func (w *walk) tables() {
+	told, e := w.s.Tables()
+	w.expect("Tables", e, w.dead(), false, true)
+	if e != api.OK && told != nil {
+		w.t.Fatalf("Tables = %v, %d", told, e)
+	}
+	if e == api.OK {
+		tellsTables(w.t, w.s)
+	}
 }
 
 func (w *walk) get() {
@@ -141,12 +244,7 @@ func (w *walk) scan() {
 	lo, hi, limit := w.text(2), w.text(2), w.Intn(12)-1
 	pairs, e := w.s.Scan(lo, hi, limit)
 	w.expect("Scan", e, w.dead(), false, limit >= 0)
-	var want []string
-	for _, key := range slices.Sorted(maps.Keys(w.h.now)) {
-		if key >= lo && (hi == "" || key < hi) && len(want) < 2*limit {
-			want = append(want, key, w.h.now[key])
-		}
-	}
+	want := part(w.h.now, lo, hi, limit)
 	if e != api.OK {
 		want = nil
 	}
@@ -166,6 +264,9 @@ func (w *walk) sync() {
 
 func (w *walk) reopen() {
 	policy := w.Intn(5) - 1
+	if w.steady {
+		policy = w.policy
+	}
 	s, e := strata.Open(w.d, policy)
 	if policy < 0 || policy > 2 {
 		if s != nil || e != api.ErrArg {
@@ -180,7 +281,13 @@ func (w *walk) reopen() {
 		}
 		return
 	}
+	w.same = w.same && policy == w.policy || w.s == nil
 	w.s, w.old, w.open, w.stuck = s, w.s, true, false
+	w.policy, w.snaps, w.taken = policy, map[int]map[string]string{}, 0
+	if tellsTables(w.t, s); w.same && w.roomy() {
+		inShape(w.t, s, policy)
+	}
+	fewFiles(w.t, w.d, s)
 	if w.crash {
 		w.h.came(w.t, s)
 		w.crash = false
@@ -208,7 +315,7 @@ func (w *walk) crashes() {
 }
 
 func (w *walk) step() {
-	switch n := w.Intn(40); {
+	switch n := w.Intn(70); {
 	case n < 18:
 		w.batch()
 	case n < 24:
@@ -223,6 +330,16 @@ func (w *walk) step() {
 		w.d.Fuse(w.Intn(20) - 1)
 	case n < 38 || w.dead():
 		w.crashes()
+	case n < 50:
+		w.flush()
+	case n < 55:
+		w.snapshot()
+	case n < 58:
+		w.release()
+	case n < 67:
+		w.readAt()
+	default:
+		w.tables()
 	}
 	if w.old != nil && w.old != w.s {
 		if e := w.old.Sync(); e != api.ErrClosed {
@@ -231,13 +348,16 @@ func (w *walk) step() {
 	}
 }
 
-// P6 to P8, P14 and P15 together.
+func newWalk(t *testing.T, r *rand.Rand, quota int) *walk {
+	return &walk{Rand: r, t: t, d: newDisk(t, quota), h: newHistory(), quota: quota, steady: r.Intn(2) == 0, policy: r.Intn(3)}
+}
+
+// P6 to P10 and P13 to P15 together.
 func TestAStoreKeepsItsPromises(t *testing.T) {
-	for seed := range int64(600) {
+	for seed := range int64(1200) {
 		r := rand.New(rand.NewSource(seed))
-		quota := []int{api.MaxQuota, 8192, 2000, r.Intn(700)}[r.Intn(4)]
-		w := &walk{Rand: r, t: t, d: newDisk(t, quota), h: newHistory(), quota: quota}
-		for range 300 {
+		w := newWalk(t, r, []int{api.MaxQuota, 8192, 2000, r.Intn(700)}[r.Intn(4)])
+		for range 400 {
 			w.step()
 		}
 	}
@@ -246,9 +366,8 @@ func TestAStoreKeepsItsPromises(t *testing.T) {
 // P6: with a quota as great as it says no change is ever refused, however often the disk crashes.
 func TestTheQuotaThatIsEnough(t *testing.T) {
 	for seed := range int64(60) {
-		r := rand.New(rand.NewSource(seed))
-		first := &walk{Rand: r, t: t, d: newDisk(t, api.MaxQuota), h: newHistory(), quota: api.MaxQuota}
-		count := 20 + r.Intn(200)
+		count := 20 + int(seed)*3
+		first := newWalk(t, rand.New(rand.NewSource(seed)), api.MaxQuota)
 		for range count {
 			first.step()
 		}
@@ -256,8 +375,7 @@ func TestTheQuotaThatIsEnough(t *testing.T) {
 		if quota > api.MaxQuota {
 			continue
 		}
-		again := &walk{Rand: rand.New(rand.NewSource(seed)), t: t, d: newDisk(t, quota), h: newHistory(), quota: quota}
-		again.Intn(200)
+		again := newWalk(t, rand.New(rand.NewSource(seed)), quota)
 		for range count {
 			again.step()
 		}

@@ -103,29 +103,29 @@ func (s *Store) Scan(lo string, hi string, limit int) ([]api.Pair, api.Errno) {
 }
 
 // Snapshot keeps what is there now (P9).
-func (s *Store) Snapshot() (int, api.Errno) { return 0, s.inner().Ready() }
+func (s *Store) Snapshot() (int, api.Errno) { return s.inner().Snapshot() }
 
 // Release gives a snapshot up (P9).
-func (s *Store) Release(id int) api.Errno { return s.inner().Ready() }
+func (s *Store) Release(id int) api.Errno { return s.inner().Release(id) }
 
 // GetAt tells a key's value at a snapshot (P9).
 func (s *Store) GetAt(id int, key string) (string, bool, api.Errno) {
-	return "", false, s.inner().Ready()
+	return s.inner().GetAt(id, key)
 }
 
 // ScanAt tells keys and values in order at a snapshot (P9).
 func (s *Store) ScanAt(id int, lo string, hi string, limit int) ([]api.Pair, api.Errno) {
-	return nil, s.inner().Ready()
+	return s.inner().ScanAt(id, lo, hi, limit)
 }
 
 // Flush writes what is in memory to a table (P10).
-func (s *Store) Flush() api.Errno { return s.inner().Writable() }
+func (s *Store) Flush() api.Errno { return s.inner().Flush() }
 
 // Compact merges all tables (P11).
 func (s *Store) Compact() api.Errno { return s.inner().Writable() }
 
 // Tables tells which tables there are (P10).
-func (s *Store) Tables() ([]api.Table, api.Errno) { return nil, s.inner().Ready() }
+func (s *Store) Tables() ([]api.Table, api.Errno) { return s.inner().Tables() }
 
 // Merge merges some tables (P12).
 func (s *Store) Merge(numbers []int) api.Errno { return s.inner().Writable() }
