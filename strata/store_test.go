@@ -105,7 +105,9 @@ func refusesEverything(t *testing.T, s *strata.Store, want api.Errno) {
 	answers(t, "Release", s.Release(1), want)
 	answers(t, "Flush", s.Flush(), want)
 	answers(t, "Compact", s.Compact(), want)
-	answers(t, "Merge", s.Merge(nil), want)
+	for _, proposal := range [][]int{nil, {}, {1}, {1, 1}, {-1}} {
+		answers(t, "Merge", s.Merge(proposal), want)
+	}
 	answers(t, "Sync", s.Sync(), want)
 }
 
@@ -142,7 +144,7 @@ func size(t *testing.T, d *strata.Disk) int {
 func TestEveryCallOfAStoreEndsOnEveryInput(t *testing.T) {
 	numbers := []int{math.MinInt, -1, 0, 1, 2, math.MaxInt}
 	texts := []string{"", "a", "\x00", "\xff\xff", strings.Repeat("k", 16), strings.Repeat("k", 17), strings.Repeat("v", 64), strings.Repeat("v", 65), strings.Repeat("v", 100000)}
-	lists := [][]int{nil, {}, numbers, {1, 1}, {1, 2, 3}}
+	lists := [][]int{nil, {}, numbers, {1, 1}, {1, 2, 3}, make([]int, 100000)}
 	none, _ := strata.Open(nil, 0)
 	closedDisk, closed := newStore(t)
 	closedDisk.Crash(nil)
@@ -628,6 +630,9 @@ func TestAStoreThatIsStuck(t *testing.T) {
 	}
 	answers(t, "Batch of nothing", s.Batch(nil), api.ErrStuck)
 	answers(t, "Sync", s.Sync(), api.ErrStuck)
+	answers(t, "Flush", s.Flush(), api.ErrStuck)
+	answers(t, "Compact", s.Compact(), api.ErrStuck)
+	answers(t, "Merge", s.Merge(nil), api.ErrStuck)
 	has(t, s, "a", value)
 	misses(t, s, "b", api.OK)
 	misses(t, s, "", api.ErrArg)
@@ -766,7 +771,7 @@ func TestSyncOfADiskThatDies(t *testing.T) {
 	has(t, open(t, d, 0))
 }
 
-// The document's examples of the store, but for Compact.
+// The document's examples of the store.
 func TestExamplesOfTheStore(t *testing.T) {
 	d, s := newStore(t)
 	answers(t, `Put("b", "1")`, s.Put("b", "1"), api.OK)
@@ -795,6 +800,10 @@ func TestExamplesOfTheStore(t *testing.T) {
 	answers(t, "Release(1)", s.Release(1), api.OK)
 	if value, ok, e := s.GetAt(1, "b"); value != "" || ok || e != api.ErrSnap {
 		t.Errorf(`GetAt(1, "b") = %q, %v, %d`, value, ok, e)
+	}
+	answers(t, "Compact()", s.Compact(), api.OK)
+	if told := tables(t, s); len(told) != 1 || told[0].Entries != 1 {
+		t.Errorf("Tables() = %v", told)
 	}
 	answers(t, `Put("c", "3")`, s.Put("c", "3"), api.OK)
 	answers(t, "Sync()", s.Sync(), api.OK)

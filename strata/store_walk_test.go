@@ -31,6 +31,8 @@ type walk struct {
 	same   bool                      // whether all stores on the disk had this policy
 	snaps  map[int]map[string]string // the maps that live snapshots keep
 	taken  int
+	had    given // the numbers of the store's tables, so far as they were told
+	bent   bool  // whether Merge may have taken the highest level away, by the policy Lazy, since the tables were brought into shape
 }
 
 func (w *walk) dead() bool {
@@ -137,9 +139,19 @@ func (w *walk) batch() {
 	case e == api.OK, e == api.ErrDead && !wasDead:
 		w.h.did(ops)
 	}
-	if e == api.OK && w.roomy() {
+	if e == api.OK {
+		w.shaped()
+	}
+}
+
+// shaped checks the shape behind a call that brings the tables into it.
+func (w *walk) shaped() {
+	w.t.Helper()
+	if w.roomy() {
 		inShape(w.t, w.s, w.policy)
 	}
+	w.bent = false
+	w.had.see(tables(w.t, w.s))
 }
 
 func (w *walk) flush() {
@@ -149,9 +161,66 @@ func (w *walk) flush() {
 	if e != api.OK {
 		return
 	}
-	if w.roomy() {
-		inShape(w.t, w.s, w.policy)
+	w.shaped()
+	fewFiles(w.t, w.d, w.s)
+	w.h.is(w.t, w.s)
+}
+
+func (w *walk) compact() {
+	wasDead := w.dead()
+	e := w.s.Compact()
+	w.expect("Compact", e, wasDead, true, true)
+	if e != api.OK {
+		return
 	}
+	w.had.see(tellsTables(w.t, w.s))
+	if told := tables(w.t, w.s); len(told) > 1 {
+		w.t.Fatalf("Tables = %v", told)
+	}
+	if len(w.snaps) == 0 {
+		isSmall(w.t, w.d, w.s)
+	}
+	fewFiles(w.t, w.d, w.s)
+	w.h.is(w.t, w.s)
+}
+
+// proposal draws numbers of tables, mostly of some that may be merged: from one index on and ahead of another. If they may not be, it tells no tables.
+func (w *walk) proposal(told []api.Table) (numbers []int, from int, to int) {
+	if len(told) == 0 || w.Intn(8) == 0 {
+		return [][]int{nil, {-1}, {0}, {1 << 40}}[w.Intn(4)], 0, 0
+	}
+	from = w.Intn(len(told))
+	to = from + 1 + w.Intn(len(told)-from)
+	numbers = numbersOf(told[from:to])
+	w.Shuffle(len(numbers), func(i, j int) { numbers[i], numbers[j] = numbers[j], numbers[i] })
+	switch n := w.Intn(20); {
+	case n == 0:
+		return append(numbers, numbers[w.Intn(len(numbers))]), 0, 0
+	case n == 1:
+		return append(numbers, -1), 0, 0
+	case n == 2 && to+1 < len(told):
+		return append(numbers, told[to+1].Number), 0, 0
+	}
+	return numbers, from, to
+}
+
+func (w *walk) merge() {
+	told, _ := w.s.Tables()
+	numbers, from, to := w.proposal(told)
+	want := slices.Clone(numbers)
+	wasDead := w.dead()
+	e := w.s.Merge(numbers)
+	w.expect("Merge", e, wasDead, true, to > 0)
+	if !slices.Equal(numbers, want) {
+		w.t.Fatalf("the proposal was %v, and is %v", want, numbers)
+	}
+	w.bent = w.bent || w.policy == api.Lazy
+	if e != api.OK {
+		return
+	}
+	after := tellsTables(w.t, w.s)
+	isMerged(w.t, told, from, to, after, w.had)
+	w.had.see(after)
 	fewFiles(w.t, w.d, w.s)
 	w.h.is(w.t, w.s)
 }
@@ -283,8 +352,9 @@ func (w *walk) reopen() {
 	}
 	w.same = w.same && policy == w.policy || w.s == nil
 	w.s, w.old, w.open, w.stuck = s, w.s, true, false
-	w.policy, w.snaps, w.taken = policy, map[int]map[string]string{}, 0
-	if tellsTables(w.t, s); w.same && w.roomy() {
+	w.policy, w.snaps, w.taken, w.had = policy, map[int]map[string]string{}, 0, given{}
+	w.had.see(tellsTables(w.t, s))
+	if w.same && w.roomy() && !w.bent {
 		inShape(w.t, s, policy)
 	}
 	fewFiles(w.t, w.d, s)
@@ -315,7 +385,7 @@ func (w *walk) crashes() {
 }
 
 func (w *walk) step() {
-	switch n := w.Intn(70); {
+	switch n := w.Intn(80); {
 	case n < 18:
 		w.batch()
 	case n < 24:
@@ -338,6 +408,10 @@ func (w *walk) step() {
 		w.release()
 	case n < 67:
 		w.readAt()
+	case n < 70:
+		w.compact()
+	case n < 77:
+		w.merge()
 	default:
 		w.tables()
 	}
@@ -352,7 +426,7 @@ func newWalk(t *testing.T, r *rand.Rand, quota int) *walk {
 	return &walk{Rand: r, t: t, d: newDisk(t, quota), h: newHistory(), quota: quota, steady: r.Intn(2) == 0, policy: r.Intn(3)}
 }
 
-// P6 to P10 and P13 to P15 together.
+// P6 to P15 together.
 func TestAStoreKeepsItsPromises(t *testing.T) {
 	for seed := range int64(1200) {
 		r := rand.New(rand.NewSource(seed))

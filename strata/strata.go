@@ -122,13 +122,13 @@ func (s *Store) ScanAt(id int, lo string, hi string, limit int) ([]api.Pair, api
 func (s *Store) Flush() api.Errno { return s.inner().Flush() }
 
 // Compact merges all tables (P11).
-func (s *Store) Compact() api.Errno { return s.inner().Writable() }
+func (s *Store) Compact() api.Errno { return s.inner().Compact() }
 
 // Tables tells which tables there are (P10).
 func (s *Store) Tables() ([]api.Table, api.Errno) { return s.inner().Tables() }
 
 // Merge merges some tables (P12).
-func (s *Store) Merge(numbers []int) api.Errno { return s.inner().Writable() }
+func (s *Store) Merge(numbers []int) api.Errno { return s.inner().Merge(numbers) }
 
 // Sync makes all that was done safe (P14).
 func (s *Store) Sync() api.Errno { return s.inner().Sync() }
